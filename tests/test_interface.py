@@ -5,10 +5,14 @@ import inspect
 import unittest
 from pathlib import Path
 
-from handspaces import errors, rests, spaces
-from handspaces.errors import BadPrime
+from handspaces import classes, errors, pieces, rests, spaces, triples, words
+from handspaces.classes import below, breach, marks, parting, plain, same
+from handspaces.errors import BadColumn, BadPrime
+from handspaces.pieces import is_apart, nine_numbers
 from handspaces.rests import inverse
 from handspaces.spaces import Space
+from handspaces.triples import Triple, kind_triple, triple_of, value
+from handspaces.words import Word
 
 FOLDER = Path(errors.__file__).parent
 LIBRARY = ("heapq", "itertools", "math")
@@ -16,14 +20,36 @@ LIBRARY = ("heapq", "itertools", "math")
 FUNCTIONS = {
     rests: {"is_integer": ["value"], "is_prime": ["value"], "inverse": ["number", "prime"]},
     spaces: {"extension": ["inner", "outer"], "image": ["space", "matrix"]},
+    triples: {"value": ["word", "triple"], "kind_triple": ["prime", "kind"], "triple_of": ["prime", "numbers"]},
+    pieces: {"pieces": ["triple"], "is_apart": ["triple", "pieces"], "nine_numbers": ["triple"]},
+    classes: {
+        "marks": ["word"], "same": ["one", "other"], "below": ["one", "other"], "parting": ["one", "other"],
+        "breach": ["one", "other"], "plain_words": [], "plain": ["word"],
+    },
 }
 
 METHODS = {
-    "__init__": ["self", "prime", "length", "vectors"], "nothing": ["prime", "length"], "whole": ["prime", "length"],
-    "read": ["text"], "basis": ["self"], "rest": ["self", "vector"], "vectors": ["self"], "text": ["self"],
-    "__len__": ["self"], "__eq__": ["self", "other"], "__le__": ["self", "other"], "__add__": ["self", "other"],
-    "__and__": ["self", "other"], "__contains__": ["self", "vector"],
+    Space: {
+        "__init__": ["self", "prime", "length", "vectors"], "nothing": ["prime", "length"],
+        "whole": ["prime", "length"], "read": ["text"], "basis": ["self"], "rest": ["self", "vector"],
+        "vectors": ["self"], "text": ["self"],
+        "__len__": ["self"], "__eq__": ["self", "other"], "__le__": ["self", "other"], "__add__": ["self", "other"],
+        "__and__": ["self", "other"], "__contains__": ["self", "vector"],
+    },
+    Word: {
+        "__init__": ["self", "sign", "parts"], "read": ["text"], "__add__": ["self", "other"],
+        "__and__": ["self", "other"], "__eq__": ["self", "other"], "__len__": ["self"], "text": ["self"],
+        "swapped": ["self", "order"], "dual": ["self"],
+    },
+    Triple: {
+        "__init__": ["self", "a", "b", "c"], "__getitem__": ["self", "hand"], "__eq__": ["self", "other"],
+        "changed": ["self", "hand", "space"], "swapped": ["self", "order"], "beside": ["self", "other"],
+    },
 }
+
+CLASS_METHODS = {Space: ["nothing", "whole", "read"], Word: ["read"], Triple: []}
+PROPERTIES = {Space: ["prime", "length"], Word: ["sign", "parts"], Triple: ["a", "b", "c", "prime", "length"]}
+PLACES = {Space: "handspaces.spaces", Word: "handspaces.words", Triple: "handspaces.triples"}
 
 
 class Places(unittest.TestCase):
@@ -35,19 +61,24 @@ class Places(unittest.TestCase):
                 self.assertEqual(list(inspect.signature(made).parameters), parameters)
 
     def test_classes(self):
-        self.assertEqual(Space.__module__, "handspaces.spaces")
+        for made, place in PLACES.items():
+            self.assertEqual(made.__module__, place)
         for made in vars(errors).values():
             if inspect.isclass(made):
                 self.assertEqual(made.__module__, "handspaces.errors")
 
     def test_methods_are_defined_in_the_class_itself(self):
-        for name, parameters in METHODS.items():
-            self.assertIn(name, vars(Space))
-            self.assertEqual(list(inspect.signature(getattr(Space, name)).parameters), parameters)
-        for name in ("nothing", "whole", "read"):
-            self.assertIsInstance(vars(Space)[name], classmethod)
-        for name in ("prime", "length"):
-            self.assertIsInstance(vars(Space)[name], property)
+        for made, methods in METHODS.items():
+            for name, parameters in methods.items():
+                self.assertIn(name, vars(made))
+                self.assertEqual(list(inspect.signature(getattr(made, name)).parameters), parameters)
+            for name in CLASS_METHODS[made]:
+                self.assertIsInstance(vars(made)[name], classmethod)
+            for name in PROPERTIES[made]:
+                self.assertIsInstance(vars(made)[name], property)
+
+    def test_kinds(self):
+        self.assertEqual(triples.KINDS, ("", "a", "b", "c", "ab", "ac", "bc", "abc", "plane"))
 
 
 class Examples(unittest.TestCase):
@@ -66,6 +97,46 @@ class Examples(unittest.TestCase):
         with self.assertRaises(BadPrime) as caught:
             Space(4, 1)
         self.assertEqual(caught.exception.told, 4)
+
+    def test_words(self):
+        word = Word.read("(a+b)&(a+c)")
+        self.assertEqual(
+            (word.text(), len(word), word.swapped("bca").text(), word.dual().text()),
+            ("(a + b) & (a + c)", 4, "(b + c) & (b + a)", "a & b + a & c"))
+        self.assertTrue(Word("&", [Word("a"), Word("b") + Word("1")]) == Word.read("a & (b + 1)"))
+        with self.assertRaises(BadColumn) as caught:
+            Word.read("a + (b")
+        self.assertEqual(caught.exception.column, 7)
+
+    def test_triples(self):
+        triple = Triple(Space(2, 2, [(1, 0)]), Space(2, 2, [(0, 1)]), Space(2, 2, [(1, 1)]))
+        self.assertEqual(
+            (triple == kind_triple(2, "plane"), value(Word.read("a & (b + c)"), triple).basis(),
+             value(Word.read("a & b + a & c"), triple).basis()),
+            (True, [(1, 0)], []))
+        self.assertEqual(
+            (triple_of(3, {"ab": 1, "plane": 1})["c"].basis(), triple["b"] == triple.swapped("bca").a),
+            ([(0, 1, 1)], True))
+
+    def test_pieces(self):
+        triple = Triple(Space(2, 3, [(1, 0, 0), (0, 1, 0)]), Space(2, 3, [(0, 0, 1)]), Space(2, 3, [(1, 0, 1)]))
+        told = nine_numbers(triple)
+        self.assertEqual((told["plane"], told["a"], sum(told.values())), (1, 1, 2))
+        self.assertEqual(
+            (is_apart(triple, pieces.pieces(triple)),
+             is_apart(triple, [("plane", [(1, 0, 0), (0, 0, 1)]), ("a", [(1, 1, 0)])])),
+            (True, True))
+
+    def test_classes(self):
+        one = Word.read("a & (b + c)")
+        other = Word.read("a & b + a & c")
+        self.assertEqual(
+            (same(one, other), parting(one, other), below(other, one), breach(one, other), marks(one)["plane"]),
+            (False, "plane", True, "plane", "a"))
+        words = Word.read("a & (b + a & c)"), Word.read("(a + c) & (b + a & b + c) & (a + b)")
+        self.assertEqual(
+            (plain(words[0]).text(), plain(words[1]).text()),
+            ("a & b + a & c", "(a + b) & (a + c) & (b + c)"))
 
 
 class Form(unittest.TestCase):

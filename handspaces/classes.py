@@ -58,6 +58,11 @@ def marks(word):
     return {kind: told[kind] if kind == PLANE else int(told[kind]) for kind in KINDS}
 
 
+def within_on(one, other, kind):
+    """Whether a word is within another one on a kind."""
+    return is_within(mark(one, kind), mark(other, kind))
+
+
 def parting(one, other):
     """The first kind on which two words do not agree, or None."""
     for kind in KINDS:
@@ -69,7 +74,7 @@ def parting(one, other):
 def breach(one, other):
     """The first kind on which one word is not within another one, or None."""
     for kind in KINDS:
-        if not is_within(mark(one, kind), mark(other, kind)):
+        if not within_on(one, other, kind):
             return kind
     return None
 

@@ -96,6 +96,13 @@ def sent(row, matrix, prime):
     return tuple([sum([item * line[at] for item, line in zip(row, matrix)]) % prime for at in places])
 
 
+def turning(rows, others, prime):
+    """The matrix that sends each row of one basis of all rows to the one of another basis with its index."""
+    # Clearing the first halves makes them the rows with a single 1.
+    double = [row + other for row, other in zip(rows, others)]
+    return [row[len(rows):] for row in reduced(double, prime)]
+
+
 def all_sums(basis, prime, start):
     """A generator of the sums of one row and multiples of those of a reduced basis.
 

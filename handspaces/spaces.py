@@ -1,19 +1,23 @@
 """Spaces of vectors modulo a prime."""
 
 from handspaces.errors import BadLength, BadMatrix, BadPrime, BadText, BadVector, NotWithin, UnlikeSpaces
-from handspaces.rests import is_integer, is_prime
+from handspaces.rests import check_prime, is_integer
 from handspaces.rows import all_sums, common_rows, is_row, lead, reduced, rest_of, row_of, sent, unit_rows, zero_row
 
 LONGEST = 12
 MOST_DIGITS = 2
 
 
-def check_size(prime, length):
-    """Raise an error unless there are spaces of this prime and length."""
-    if not is_prime(prime):
-        raise BadPrime(prime)
+def check_length(length):
+    """Raise an error unless a value is the length of the vectors of a space."""
     if not is_integer(length) or length < 0 or length > LONGEST:
         raise BadLength(length)
+
+
+def check_size(prime, length):
+    """Raise an error unless there are spaces of this prime and length."""
+    check_prime(prime)
+    check_length(length)
 
 
 def check_like(one, other):

@@ -1,8 +1,8 @@
 """Triples of spaces, one for each hand, and the values of words in them."""
 
-from handspaces.errors import BadNumbers, BadPrime, NoKind, TooGreat, UnlikeSpaces
+from handspaces.errors import BadNumbers, NoKind, TooGreat, UnlikeSpaces
 from handspaces.hands import HANDS, check_hand, check_order
-from handspaces.rests import is_integer, is_prime
+from handspaces.rests import check_prime, is_integer
 from handspaces.rows import added, unit_rows, zero_row
 from handspaces.spaces import LONGEST, Space, check_like
 
@@ -104,6 +104,12 @@ def value(word, triple):
     return first + second if word.sign == "+" else first & second
 
 
+def check_kind(kind):
+    """Raise an error unless a value is a kind."""
+    if kind not in KINDS:
+        raise NoKind(kind)
+
+
 def kind_length(kind):
     """The length of the triple of a kind."""
     return 2 if kind == PLANE else 1
@@ -121,13 +127,16 @@ def given(kind, rows, hand, prime):
 
 def kind_triple(prime, kind):
     """The triple of a kind."""
-    if not is_prime(prime):
-        raise BadPrime(prime)
-    if kind not in KINDS:
-        raise NoKind(kind)
+    check_prime(prime)
+    check_kind(kind)
     length = kind_length(kind)
     spaces = [Space(prime, length, given(kind, unit_rows(length), hand, prime)) for hand in HANDS]
     return Triple(*spaces)
+
+
+def has_all_kinds(table):
+    """Whether the keys of a dict are the nine kinds."""
+    return len(table) == len(KINDS) and all([kind in table for kind in KINDS])
 
 
 def check_numbers(numbers):
@@ -142,12 +151,16 @@ def triple_length(numbers):
     return sum([kind_length(kind) * many for kind, many in numbers.items()])
 
 
-def triple_of(prime, numbers):
-    """The triple of kinds beside one another, each as often as a dict tells."""
-    if not is_prime(prime):
-        raise BadPrime(prime)
+def check_triples(prime, numbers):
+    """Raise an error unless there are triples of this prime with the nine numbers of a dict."""
+    check_prime(prime)
     check_numbers(numbers)
     check_longest(triple_length(numbers))
+
+
+def triple_of(prime, numbers):
+    """The triple of kinds beside one another, each as often as a dict tells."""
+    check_triples(prime, numbers)
     empty = Space.nothing(prime, 0)
     triple = Triple(empty, empty, empty)
     for kind in KINDS:

@@ -34,14 +34,14 @@ def part_text(part, enclosed):
     return f"({part.text()})" if enclosed else part.text()
 
 
-def check_text(text):
-    """Raise an error unless a string is the text of a word."""
+def check_text(text, most):
+    """Raise an error unless a string can be read, with at most so many parentheses open at any place."""
     opened = 0
     wanted = True
     for column, sign in enumerate(text, start=1):
         if wanted and sign in LEAVES:
             wanted = False
-        elif wanted and sign == "(" and opened < MOST_OPEN:
+        elif wanted and sign == "(" and opened < most:
             opened += 1
         elif not wanted and sign in JOINTS:
             wanted = True
@@ -79,6 +79,13 @@ def read_part(signs, at):
     return word, at + 1
 
 
+def read_word(text, most):
+    """The word with a text in which at most so many parentheses are open at any place."""
+    check_text(text, most)
+    word, _ = read_sum(text.replace(" ", ""), 0)
+    return word
+
+
 class Word:
     """A word; it never changes."""
 
@@ -91,9 +98,7 @@ class Word:
     @classmethod
     def read(cls, text):
         """The word with a text, whatever spaces and parentheses are around its parts."""
-        check_text(text)
-        word, _ = read_sum(text.replace(" ", ""), 0)
-        return word
+        return read_word(text, MOST_OPEN)
 
     @property
     def sign(self):

@@ -92,3 +92,14 @@ def mixed_triple(random, prime, numbers):
     length, rows = hand_rows(numbers)
     matrix = drawn_matrix(random, prime, length)
     return Triple(*[Space(prime, length, [sent_to(prime, row, matrix) for row in rows[hand]]) for hand in "abc"])
+
+
+def drawn_terms(random, most=6, size=5, great=3):
+    """Drawn tuples of an integer and a tree."""
+    return [(random.randrange(-great, great + 1), drawn_tree(random, random.randrange(1, size + 1), "abcabc01"))
+            for _ in range(random.randrange(most + 1))]
+
+
+def made_terms(terms):
+    """The tuples of an integer and a word for tuples of an integer and a tree."""
+    return [(number, made(tree)) for number, tree in terms]

@@ -5,11 +5,14 @@ import inspect
 import unittest
 from pathlib import Path
 
-from handspaces import classes, errors, pieces, rests, spaces, triples, words
+from handspaces import carrying, classes, errors, facts, pieces, rests, sizes, spaces, triples, words
+from handspaces.carrying import all_numbers, alike, carry, is_carried, keepers, triple_count
 from handspaces.classes import below, breach, marks, parting, plain, same
-from handspaces.errors import BadColumn, BadPrime
+from handspaces.errors import BadColumn, BadPrime, BadText
+from handspaces.facts import Facts
 from handspaces.pieces import is_apart, nine_numbers
 from handspaces.rests import inverse
+from handspaces.sizes import Claim, coefficients, holds, refuting
 from handspaces.spaces import Space
 from handspaces.triples import Triple, kind_triple, triple_of, value
 from handspaces.words import Word
@@ -26,7 +29,14 @@ FUNCTIONS = {
         "marks": ["word"], "same": ["one", "other"], "below": ["one", "other"], "parting": ["one", "other"],
         "breach": ["one", "other"], "plain_words": [], "plain": ["word"],
     },
+    carrying: {
+        "carry": ["one", "other"], "is_carried": ["matrix", "one", "other"], "keepers": ["prime", "numbers"],
+        "alike": ["prime", "numbers"], "triple_count": ["prime", "length"], "all_numbers": ["length"],
+    },
+    sizes: {"coefficients": ["word"], "holds": ["claim"], "refuting": ["claim"], "number_claim": ["kind"]},
 }
+
+GENERATORS = [carrying.all_numbers]
 
 METHODS = {
     Space: {
@@ -45,11 +55,29 @@ METHODS = {
         "__init__": ["self", "a", "b", "c"], "__getitem__": ["self", "hand"], "__eq__": ["self", "other"],
         "changed": ["self", "hand", "space"], "swapped": ["self", "order"], "beside": ["self", "other"],
     },
+    Claim: {
+        "__init__": ["self", "terms"], "read": ["text"], "__eq__": ["self", "other"], "__add__": ["self", "other"],
+        "__sub__": ["self", "other"], "__neg__": ["self"], "__mul__": ["self", "other"], "on": ["self", "triple"],
+        "total": ["self", "numbers"], "on_kinds": ["self"], "text": ["self"],
+    },
+    Facts: {
+        "__init__": ["self", "within", "not_within"], "kinds": ["self"], "clashes": ["self"],
+        "verdict": ["self", "one", "other"], "model": ["self", "one", "other", "inside"],
+        "reason": ["self", "one", "other"], "clash_reason": ["self"],
+        "shows": ["self", "one", "other", "reason"], "shows_clash": ["self", "reason"],
+    },
 }
 
-CLASS_METHODS = {Space: ["nothing", "whole", "read"], Word: ["read"], Triple: []}
-PROPERTIES = {Space: ["prime", "length"], Word: ["sign", "parts"], Triple: ["a", "b", "c", "prime", "length"]}
-PLACES = {Space: "handspaces.spaces", Word: "handspaces.words", Triple: "handspaces.triples"}
+CLASS_METHODS = {Space: ["nothing", "whole", "read"], Word: ["read"], Claim: ["read"]}
+PROPERTIES = {
+    Space: ["prime", "length"], Word: ["sign", "parts"], Triple: ["a", "b", "c", "prime", "length"],
+    Claim: ["terms"], Facts: ["within", "not_within"],
+}
+BY_NAME = {Facts: ["within", "not_within"]}
+PLACES = {
+    Space: "handspaces.spaces", Word: "handspaces.words", Triple: "handspaces.triples", Claim: "handspaces.sizes",
+    Facts: "handspaces.facts",
+}
 
 
 class Places(unittest.TestCase):
@@ -72,10 +100,21 @@ class Places(unittest.TestCase):
             for name, parameters in methods.items():
                 self.assertIn(name, vars(made))
                 self.assertEqual(list(inspect.signature(getattr(made, name)).parameters), parameters)
-            for name in CLASS_METHODS[made]:
+            for name in CLASS_METHODS.get(made, []):
                 self.assertIsInstance(vars(made)[name], classmethod)
             for name in PROPERTIES[made]:
                 self.assertIsInstance(vars(made)[name], property)
+
+    def test_what_is_passed_by_name_only(self):
+        for made, methods in METHODS.items():
+            for name in methods:
+                told = inspect.signature(getattr(made, name)).parameters.values()
+                only = [parameter.name for parameter in told if parameter.kind == parameter.KEYWORD_ONLY]
+                self.assertEqual(only, BY_NAME.get(made, []) if name == "__init__" else [])
+
+    def test_generators(self):
+        for made in (*GENERATORS, Space.vectors):
+            self.assertTrue(inspect.isgeneratorfunction(made))
 
     def test_kinds(self):
         self.assertEqual(triples.KINDS, ("", "a", "b", "c", "ab", "ac", "bc", "abc", "plane"))
@@ -137,6 +176,41 @@ class Examples(unittest.TestCase):
         self.assertEqual(
             (plain(words[0]).text(), plain(words[1]).text()),
             ("a & b + a & c", "(a + b) & (a + c) & (b + c)"))
+
+    def test_carrying(self):
+        one = kind_triple(3, "plane")
+        other = Triple(Space(3, 2, [(1, 1)]), Space(3, 2, [(0, 1)]), Space(3, 2, [(1, 0)]))
+        apart = kind_triple(3, "a").beside(kind_triple(3, "b"))
+        self.assertEqual(
+            (is_carried(carry(one, other), one, other), is_carried([(1, 0), (0, 1)], one, other), carry(one, apart)),
+            (True, False, None))
+        self.assertEqual(
+            (keepers(2, {"plane": 1}), alike(2, {"plane": 1}), triple_count(2, 2), len(list(all_numbers(2)))),
+            (1, 6, 125, 37))
+
+    def test_sizes(self):
+        told = coefficients(Word.read("a & (b + c)"))
+        self.assertEqual((told["a"], told["ab"], told["abc"], told["plane"]), (0, 1, 1, 1))
+        less = Claim.read("1 |a|, 1 |b|, -1 |a + b|, -1 |a & b|")
+        three = Claim.read(
+            "1 |a|, 1 |b|, 1 |c|, -1 |a + b + c|, -1 |a & b|, -1 |a & c|, -1 |b & c|, 1 |a & b & c|")
+        self.assertEqual(
+            (holds(less), holds(-less), refuting(Claim.read("1 |a|, -1 |b|")), holds(three), refuting(-three)),
+            (True, True, "b", True, "plane"))
+        terms = [(1, Word.read("a & (b + c)")), (-1, Word.read("a & b + a & c"))]
+        self.assertEqual((three.total({"plane": 2, "a": 5}), three == Claim(terms)), (2, True))
+        with self.assertRaises(BadText):
+            Claim.read("1 |a|,1 |b|")
+
+    def test_facts(self):
+        a, b, c = Word("a"), Word("b"), Word("c")
+        told = facts.Facts(within=[(c, a + b), (a & b, c)], not_within=[(a & (b + c), a & b + a & c)])
+        self.assertEqual(
+            (told.kinds(), told.verdict(c, a), told.verdict(b & c, a), told.verdict(a & b, b & c)),
+            (["", "a", "b", "ac", "bc", "abc", "plane"], "barred", "open", "sure"))
+        self.assertEqual(
+            (told.model(b & c, a, True)["bc"], told.shows(c, a, told.reason(c, a)), told.clashes()),
+            (0, True, False))
 
 
 class Form(unittest.TestCase):

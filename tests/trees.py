@@ -57,9 +57,9 @@ def deepest(text):
     return max(opened)
 
 
-def parsed(text):
+def parsed(text, most=9):
     """The tree of a text, by Python's own parser, where | and & bind as + and & do here; None if it is no text."""
-    if not set(text) <= set("abc01+&() ") or re.search("[abc01][abc01]", text) or deepest(text) > 9:
+    if not set(text) <= set("abc01+&() ") or re.search("[abc01][abc01]", text) or deepest(text) > most:
         return None
     try:
         return tree_of_node(ast.parse(text.strip(" ").replace("+", "|"), mode="eval").body)
@@ -84,3 +84,19 @@ def swapped_tree(tree, table):
         return table.get(tree, tree)
     sign, one, other = tree
     return table.get(sign, sign), swapped_tree(one, table), swapped_tree(other, table)
+
+
+def is_own_text(text):
+    """Whether a string is the text that a word has: no space or parenthesis is missing or needless."""
+    tree = parsed(text, 80)
+    if tree is None or re.sub(" ?([+&]) ?", r" \1 ", text.replace(" ", "")) != text:
+        return False
+    opened = []
+    for at, sign in enumerate(text):
+        if sign == "(":
+            opened.append(at)
+        elif sign == ")":
+            start = opened.pop()
+            if parsed(text[:start] + text[start + 1:at] + text[at + 1:], 80) == tree:
+                return False
+    return True

@@ -29,14 +29,12 @@ def is_carried(matrix, one, other):
 
 
 def freedom(one, other):
-    """The dimension of the maps from a kind to another one that keep the space of each hand.
+    """The dimension of the maps from a kind to a different one that keep the space of each hand.
 
     A number goes from line to line if each hand of the one is one of the other; a line
     goes to a vector of the plane that all its hands have; and a plane goes to a line by
     a map that is 0 on the spaces of the hands that the line does not have.
     """
-    if one == other:
-        return 1
     if one == PLANE:
         return max(0, len(other) - 1)
     if other == PLANE:

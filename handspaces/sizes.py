@@ -24,6 +24,11 @@ def coefficients(word):
     return {kind: coefficient(word, kind) for kind in KINDS}
 
 
+def weighed(sums, numbers):
+    """The sum of what a dict tells of the kinds, each times how many there are of it."""
+    return sum([many * sums[kind] for kind, many in numbers.items()])
+
+
 def read_integer(text):
     """The integer with a text; needless signs and zeros are not looked at here."""
     digits = text[1:] if text.startswith("-") else text
@@ -88,8 +93,7 @@ class Claim:
     def total(self, numbers):
         """The sum of the claim in the triples with nine numbers."""
         check_numbers(numbers)
-        sums = self.on_kinds()
-        return sum([many * sums[kind] for kind, many in numbers.items()])
+        return weighed(self.on_kinds(), numbers)
 
     def on_kinds(self):
         """The sums of the claim in the triples of the nine kinds."""

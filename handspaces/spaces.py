@@ -41,6 +41,11 @@ def read_numbers(text):
     return [int(word) for word in words]
 
 
+def spaced(parts):
+    """The text of numbers or strings with single spaces between them."""
+    return " ".join([str(part) for part in parts])
+
+
 class Space:
     """The space of the sums of multiples of some vectors; it never changes."""
 
@@ -127,7 +132,7 @@ class Space:
     def text(self):
         """The text of the space: prime, length and reduced basis."""
         parts = [(self._prime, self._length), *self._rows]
-        return "; ".join([" ".join([str(number) for number in part]) for part in parts])
+        return "; ".join([spaced(part) for part in parts])
 
 
 def extension(inner, outer):

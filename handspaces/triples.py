@@ -7,6 +7,7 @@ from handspaces.rows import added, unit_rows, zero_row
 from handspaces.spaces import LONGEST, Space, check_like
 
 PLANE = "plane"
+LINES = ("", "a", "b", "c", "ab", "ac", "bc", "abc")
 KINDS = ("", "a", "b", "c", "ab", "ac", "bc", "abc", "plane")
 
 

@@ -134,7 +134,8 @@ class Texts(unittest.TestCase):
         self.assertGreater(found, 20)
 
     def test_long_texts(self):
-        for text in (", ".join(["-1 |a|"] * 60), "1 |" + " + ".join("a" * 120) + "|", "5 |" + " & ".join("1" * 24) + "|"):
+        for text in (", ".join(["-1 |a|"] * 60), "1 |" + " + ".join("a" * 120) + "|",
+                     "5 |" + " & ".join("1" * 24) + "|"):
             self.assertTrue(self.check(text))
 
 

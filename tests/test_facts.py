@@ -331,7 +331,8 @@ class Told(unittest.TestCase):
         self.assertTrue(facts.shows(b, a, ("barred", 0, paper)))
         self.assertFalse(facts.shows(a, b, ("barred", 0, paper)))
         self.assertFalse(facts.shows(one=b, other=a, reason=("barred", 1, paper)))
-        for reason in (("barred", paper), ("sure", 0, paper), ("open", paper), ("open", 0, paper), ("barred", None, paper),
+        for reason in (("barred", paper), ("sure", 0, paper), ("open", paper), ("open", 0, paper),
+                       ("barred", None, paper),
                        (paper,), ()):
             for pair in ((a, b), (b, a)):
                 self.assertIs(facts.shows(*pair, reason), False)

@@ -5,11 +5,18 @@ import inspect
 import unittest
 from pathlib import Path
 
-from handspaces import carrying, classes, errors, facts, pieces, rests, sizes, spaces, triples, words
+from handspaces import (
+    carrying, chains, classes, desk, errors, facts, learning, pieces, rests, sizes, spaces, triples, words)
+from handspaces.bounds import SizeFacts
 from handspaces.carrying import all_numbers, alike, carry, is_carried, keepers, triple_count
+from handspaces.chains import (
+    Chains, cell_table, chain_breach, chain_cells, chain_parting, chain_value, plain_chain_word, plain_chain_words,
+    position)
 from handspaces.classes import below, breach, marks, parting, plain, same
-from handspaces.errors import BadColumn, BadPrime, BadText
+from handspaces.desk import Desk, read_desk
+from handspaces.errors import BadColumn, BadLine, BadPrime, BadText, Barred, NoSpace
 from handspaces.facts import Facts
+from handspaces.learning import between, fewest, learn, moved, moves, teaching, vector_for, ways
 from handspaces.pieces import is_apart, nine_numbers
 from handspaces.rests import inverse
 from handspaces.sizes import Claim, coefficients, holds, refuting
@@ -34,9 +41,23 @@ FUNCTIONS = {
         "alike": ["prime", "numbers"], "triple_count": ["prime", "length"], "all_numbers": ["length"],
     },
     sizes: {"coefficients": ["word"], "holds": ["claim"], "refuting": ["claim"], "number_claim": ["kind"]},
+    chains: {
+        "common_basis": ["chains"], "is_common_basis": ["chains", "rows"], "cell_table": ["chains"],
+        "chain_value": ["word", "chains"], "chain_cells": ["word", "first", "second"],
+        "chain_parting": ["one", "other", "first", "second"], "chain_breach": ["one", "other", "first", "second"],
+        "cell_chains": ["prime", "first", "second", "cell"], "plain_chain_word": ["word", "first", "second"],
+        "plain_chain_words": ["first", "second"], "position": ["chains"], "chains_at": ["prime", "order"],
+        "carry_chains": ["one", "other"],
+    },
+    learning: {
+        "moves": ["hand"], "learn": ["triple", "hand", "vector"], "ways": ["triple", "hand"],
+        "vector_for": ["triple", "move"], "moved": ["numbers", "row"], "teaching": ["triple", "row"],
+        "fewest": ["numbers", "claims"], "between": ["numbers", "goal"],
+    },
+    desk: {"read_desk": ["text"]},
 }
 
-GENERATORS = [carrying.all_numbers]
+GENERATORS = [carrying.all_numbers, chains.plain_chain_words]
 
 METHODS = {
     Space: {
@@ -66,17 +87,31 @@ METHODS = {
         "reason": ["self", "one", "other"], "clash_reason": ["self"],
         "shows": ["self", "one", "other", "reason"], "shows_clash": ["self", "reason"],
     },
+    SizeFacts: {
+        "__init__": ["self", "weak", "strict"], "keep": ["self", "numbers"], "model": ["self"],
+        "follows": ["self", "claim", "strict"], "counter": ["self", "claim", "strict"],
+        "weights": ["self", "claim", "strict"], "is_weights": ["self", "claim", "strict", "weights"],
+        "clash_weights": ["self"], "needless": ["self"],
+    },
+    Chains: {"__init__": ["self", "first", "second"]},
+    Desk: {
+        "__init__": ["self", "prime", "length"], "__len__": ["self"], "learn": ["self", "hand", "vector"],
+        "steps": ["self"], "triple": ["self"], "numbers": ["self"], "knows": ["self", "hands", "vector"],
+        "tellers": ["self", "vector"], "undo": ["self"], "redo": ["self"], "trial": ["self"],
+        "supposed": ["self", "steps", "word"], "text": ["self"],
+    },
 }
 
 CLASS_METHODS = {Space: ["nothing", "whole", "read"], Word: ["read"], Claim: ["read"]}
 PROPERTIES = {
     Space: ["prime", "length"], Word: ["sign", "parts"], Triple: ["a", "b", "c", "prime", "length"],
-    Claim: ["terms"], Facts: ["within", "not_within"],
+    Claim: ["terms"], Facts: ["within", "not_within"], SizeFacts: ["weak", "strict"],
+    Chains: ["first", "second", "prime", "length"], Desk: [],
 }
-BY_NAME = {Facts: ["within", "not_within"]}
+BY_NAME = {Facts: ["within", "not_within"], SizeFacts: ["weak", "strict"]}
 PLACES = {
     Space: "handspaces.spaces", Word: "handspaces.words", Triple: "handspaces.triples", Claim: "handspaces.sizes",
-    Facts: "handspaces.facts",
+    Facts: "handspaces.facts", SizeFacts: "handspaces.bounds", Chains: "handspaces.chains", Desk: "handspaces.desk",
 }
 
 
@@ -211,6 +246,68 @@ class Examples(unittest.TestCase):
         self.assertEqual(
             (told.model(b & c, a, True)["bc"], told.shows(c, a, told.reason(c, a)), told.clashes()),
             (0, True, False))
+
+    def test_bounds(self):
+        told = SizeFacts(weak=[Claim.read("1 |a|, -1 |b|")], strict=[Claim.read("1 |b|, -1 |c|")])
+        wished = Claim.read("1 |a|, -1 |c|")
+        scale, weak, strict, _ = told.weights(wished, strict=True)
+        self.assertEqual(
+            (told.follows(wished, strict=True), weak[0] == scale, strict[0] == scale,
+             told.follows(Claim.read("1 |c|, -1 |a & b|"))),
+            (True, True, True, False))
+        more = SizeFacts(weak=[Claim.read("1 |a & b|, -1 |a|"), Claim.read("1 |a + b|, -1 |a|")])
+        self.assertEqual(
+            (more.needless(), more.clash_weights(), more.counter(Claim.read("1 |b|, -1 |a|"))),
+            ([("weak", 1)], None, None))
+
+    def test_chains(self):
+        whole = Space.whole(3, 2)
+        told = Chains([Space(3, 2, [(1, 1)]), whole], [Space(3, 2, [(0, 1)]), whole])
+        table = cell_table(told)
+        self.assertEqual((table[(1, 2)], table[(2, 1)], table[(1, 1)], position(told)), (1, 1, 0, (2, 1)))
+        one = ("&", ("a", 1), ("+", ("b", 1), ("a", 2)))
+        self.assertEqual(
+            (chain_parting(one, ("a", 1), 2, 1), plain_chain_word(one, 2, 1), chain_cells(one, 2, 1),
+             chain_breach(one, ("b", 1), 2, 1)),
+            (None, ("a", 1), [(1, 1), (1, 2)], (1, 2)))
+        self.assertEqual(
+            (len(list(plain_chain_words(1, 1))), chain_value(("+", ("a", 1), ("b", 1)), told) == whole), (6, True))
+        with self.assertRaises(NoSpace) as caught:
+            chain_cells(("+", ("a", 1), ("b", 3)), 2, 2)
+        self.assertEqual(caught.exception.part, ("b", 3))
+
+    def test_learning(self):
+        triple = kind_triple(2, "b").beside(kind_triple(2, "c"))
+        told, move = learn(triple, "a", [1, 1])
+        self.assertEqual(
+            (move, moves("b")[5], ways(triple, "a")[move], ways(triple, "a")[None],
+             told == kind_triple(2, "plane").swapped("cab")),
+            (("a", ("b", "c"), ("plane",)), ("b", ("plane",), ("ab", "bc")), 1, 1, True))
+        row = fewest({"b": 1, "c": 1}, [Claim.read("1 |a & (b + c)|, -1 |1|")])
+        self.assertEqual(
+            (len(row), moved({"b": 1, "c": 1}, row)["ac"], between({"a": 1}, {"b": 1})), (2, 1, None))
+        hand, vector = teaching(triple, [("b", ("c",), ("bc",))])[0]
+        self.assertEqual(
+            (vector_for(triple, ("a", ("bc",), ("abc",))) is None, hand, learn(triple, hand, vector)[1]),
+            (True, "b", ("b", ("c",), ("bc",))))
+        with self.assertRaises(Barred) as caught:
+            moved({}, [("a", ("",), ("a",))])
+        self.assertEqual(caught.exception.spot, 0)
+
+    def test_desk(self):
+        told = Desk(3, 2)
+        self.assertEqual(
+            (told.learn("b", (1, 0)), told.learn("c", (0, 4)), told.learn("a", (1, 1))),
+            (("b", ("",), ("b",)), ("c", ("",), ("c",)), ("a", ("b", "c"), ("plane",))))
+        self.assertEqual(
+            (told.knows("ab", (0, 2)), told.tellers((1, 1)), told.tellers((1, 2)), told.steps()[1]),
+            (True, ["a", "bc"], ["ab", "ac", "bc"], ("c", (0, 1))))
+        self.assertEqual(
+            (len(told.supposed([("a", (1, 0))], Word.read("a & b"))), len(told), told.text()),
+            (1, 3, "3 2\nb 1 0\nc 0 1\na 1 1"))
+        with self.assertRaises(BadLine) as caught:
+            read_desk("3 2\na 1").steps()
+        self.assertEqual(caught.exception.line, 2)
 
 
 class Form(unittest.TestCase):

@@ -2,7 +2,7 @@ import unittest
 from copy import deepcopy
 from random import Random
 
-from brute import all_spans, all_vectors, plus
+from brute import all_spans, plus
 from handspaces.errors import BadMatrix, NotWithin, UnlikeSpaces
 from handspaces.spaces import Space, extension, image
 
